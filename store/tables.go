@@ -58,7 +58,10 @@ type filling struct{ api.Store }
 
 // take has the being of row stand last in the table of its parts.
 func (f *filling) take(row api.Row) {
-	table := &f.Tables[f.tableOf(row.Has)]
+	// A statement of its own: Go leaves open whether Tables is read ahead of a
+	// call in the same one or behind it, and this call may lay another list.
+	at := f.tableOf(row.Has)
+	table := &f.Tables[at]
 	table.Beings = append(table.Beings, row.Being)
 	for column, part := range parts.List(row.Has) {
 		table.Columns[column] = append(table.Columns[column], row.Vals[part])
